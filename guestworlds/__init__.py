@@ -1,0 +1,1 @@
+"""Guestworlds: whole machines held by one machine."""
