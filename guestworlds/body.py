@@ -4,13 +4,16 @@
 class Body:
     """All that a step of a machine reads and changes."""
 
-    def __init__(self, kind, cells, ear):
+    def __init__(self, kind, room, ear):
         self.kind = kind
-        self.cells = list(cells)
+        self.room = room
+        # A guest's body has the ground that does its rows, and tells whether a host goes through them in high.
+        self.ground = None
+        self.through = False
         self.boxes = [0, 0, 0, 0]
         self.place = 0
         self.high = True
-        self.window = (0, len(self.cells))
+        self.window = (0, room.wide)
         self.alarm = 0
         self.spoken = []
         self.ear = list(ear)
@@ -21,7 +24,7 @@ class Body:
 def bundled(body):
     """Tells all of a body, as it is carried."""
     return (
-        tuple(body.cells),
+        tuple(body.room.all_things()),
         tuple(body.boxes),
         body.place,
         body.high,

@@ -1,10 +1,9 @@
 """A machine that stands alone."""
 
 from guestworlds.body import Body, bundled, take_up
-from guestworlds.checks import check_cells, check_count, check_ear, check_kind
+from guestworlds.checks import check_cells, check_ear, check_kind, check_steps
+from guestworlds.room import room_alone
 from guestworlds.steps import let_go
-
-MOST_STEPS = 400
 
 
 class Machine:
@@ -14,11 +13,11 @@ class Machine:
         check_kind(kind)
         check_cells(cells)
         check_ear(ear)
-        self.body = Body(kind, cells, ear)
+        self.body = Body(kind, room_alone(cells), ear)
 
     def go(self, many):
         """Does so many steps, or fewer if it stops, and tells how many."""
-        check_count(many, 0, MOST_STEPS)
+        check_steps(many)
         return let_go(self.body, many)
 
     def said(self):

@@ -44,13 +44,13 @@ def is_beyond(body, address):
 
 
 def cell_of(body, address):
-    """Tells which of all cells is the one of an address that isn't beyond."""
+    """Tells which of all its cells is the one of an address that isn't beyond."""
     return body.window[0] + address
 
 
 def row_at_place(body):
     """Tells what lies at the place, which isn't beyond."""
-    return body.cells[cell_of(body, body.place)]
+    return body.room.thing_at(cell_of(body, body.place))
 
 
 def caught_at_place(body):
@@ -95,12 +95,12 @@ def catch(body, number):
 
 def make_high(body, number, called):
     """Lays into the first cells how the body was in low, and goes on where cell 5 tells."""
-    body.cells[0:5] = [body.place, body.window[0], body.window[1], number, called]
-    body.cells[6:10] = body.boxes
+    body.room.put_things(0, [body.place, body.window[0], body.window[1], number, called])
+    body.room.put_things(6, body.boxes)
     body.high = True
-    body.window = (0, len(body.cells))
+    body.window = (0, body.room.wide)
     body.alarm = 0
-    body.place = worth(body.cells[5])
+    body.place = worth(body.room.thing_at(5))
 
 
 def do_row(body, row):
@@ -134,11 +134,11 @@ def do_less(body, box, one, other):
 
 
 def do_load(body, box, pointer):
-    body.boxes[box] = body.cells[cell_of(body, box_worth(body, pointer))]
+    body.boxes[box] = body.room.thing_at(cell_of(body, box_worth(body, pointer)))
 
 
 def do_store(body, pointer, box):
-    body.cells[cell_of(body, box_worth(body, pointer))] = body.boxes[box]
+    body.room.put_things(cell_of(body, box_worth(body, pointer)), [body.boxes[box]])
 
 
 def do_zero(body, box, place):
@@ -177,7 +177,7 @@ def do_room(body, box):
 def do_enter(body, box):
     first = box_worth(body, box)
     size = box_worth(body, box + 1)
-    if first + size > len(body.cells):
+    if first + size > body.room.wide:
         body.why = "window"
         # A window that can't be leaves the place at the row itself.
         body.place -= 1
@@ -193,6 +193,14 @@ def do_alarm(body, box):
 
 def do_stop(body):
     body.why = "stop"
+
+
+def do_say_to_ground(body, box):
+    body.ground.spoken.append(box_worth(body, box))
+
+
+def do_hear_nothing(body, box):
+    body.boxes[box] = 0
 
 
 # The rows that do the same in high and in low; a call in low is always caught.
@@ -227,14 +235,29 @@ OWN_IN_LOW = {
     "stop": do_nothing,
 }
 
+# What a ground does otherwise than a machine in low, for the guests upon it.
+OWN_BY_GROUND = {
+    "say": do_say_to_ground,
+    "hear": do_hear_nothing,
+}
+
 
 def act(body, row):
-    """Does what a row's word tells, in high or in low."""
+    """Does what a row's word tells."""
     word, *numbers = row
-    if word in ACTIONS:
-        action = ACTIONS[word]
-    elif body.high:
-        action = OWN_IN_HIGH[word]
-    else:
-        action = OWN_IN_LOW[word]
+    action = ACTIONS[word] if word in ACTIONS else own_action(body, word)
     action(body, *numbers)
+
+
+def own_action(body, word):
+    """Tells what does one of the machine's own rows: in high, in low, or in low by the ground."""
+    if is_done_by_ground(body, word):
+        return OWN_BY_GROUND[word] if word in OWN_BY_GROUND else OWN_IN_LOW[word]
+    return OWN_IN_HIGH[word] if body.high else OWN_IN_LOW[word]
+
+
+def is_done_by_ground(body, word):
+    """Tells whether one of the machine's own rows of a guest is done by the ground, which doesn't catch it."""
+    if body.ground is None or caught_in_low(body.kind, word) == OWN_ROW:
+        return False
+    return not (body.high and body.through)

@@ -24,6 +24,9 @@ INTERFACE = {
         "WorldError BadCells BadKind BadEar BadCount BadWay BadShare NoRoom NoGuest TooMany Busy BadText".split())},
     "machine": {"Machine": ("go", "said", "carried"), "gone_on": None},
     "ground": {"Ground": ("all_cells", "said")},
+    "host": {"Host": ("come", "lay", "go", "carried", "rooms", "turn", "leave", "move", "close_up", "inner")},
+    "kinds": {"holds": None, "unlike": None},
+    "notes": {"written": None, "read": None},
 }
 
 
@@ -91,6 +94,35 @@ class Language(unittest.TestCase):
             for node in ast.walk(tree):
                 if isinstance(node, ast.Name) and hasattr(builtins, node.id):
                     self.assertIn(node.id, ALLOWED_BUILTINS, path)
+
+    def test_no_name_is_a_method_and_an_attribute(self):
+        methods, attributes = set(), set()
+        for path, tree in trees():
+            for owner in [node for node in ast.walk(tree) if isinstance(node, ast.ClassDef)]:
+                methods.update(node.name for node in owner.body if isinstance(node, ast.FunctionDef))
+            for node in ast.walk(tree):
+                if isinstance(node, ast.Attribute) and isinstance(node.ctx, ast.Store):
+                    attributes.add(node.attr)
+        self.assertEqual(methods & attributes, set())
+
+    def test_no_local_name_is_a_class_s_or_an_import_s(self):
+        for path, tree in trees():
+            bound = {alias.name for node in tree.body if isinstance(node, ast.ImportFrom) for alias in node.names}
+            bound.update(node.name for node in tree.body if isinstance(node, ast.ClassDef))
+            for node in ast.walk(tree):
+                if isinstance(node, ast.arg):
+                    self.assertNotIn(node.arg, bound, path)
+                if isinstance(node, ast.Name) and isinstance(node.ctx, ast.Store):
+                    self.assertNotIn(node.id, bound, path)
+
+    def test_imports_go_one_way(self):
+        imports = {path.stem: {node.module.split(".")[1] for node in tree.body if isinstance(node, ast.ImportFrom)}
+                   for path, tree in trees()}
+        done = set()
+        while len(done) < len(imports):
+            ready = [stem for stem in imports if stem not in done and imports[stem] <= done]
+            self.assertNotEqual(ready, [])
+            done.update(ready)
 
     def test_the_interface_is_defined_where_it_is_listed(self):
         found = {path.stem: {node.name: node for node in tree.body if hasattr(node, "name")} for path, tree in trees()}
